@@ -1,0 +1,1 @@
+"""Ownrail: engines that carry their rails with them."""
