@@ -119,7 +119,7 @@ class Rows(unittest.TestCase):
         for path, node in nodes(ast.Compare):
             for sign, right in zip(node.ops, node.comparators):
                 if isinstance(sign, (ast.Is, ast.IsNot)):
-                    self.assertIn(getattr(right, "value", 0), (None, True, False), (path, node.lineno))
+                    self.assertIn(ast.unparse(right), ("None", "True", "False"), (path, node.lineno))
 
     def test_no_float_and_no_percent_sign_in_a_text(self):
         for path, node in nodes(ast.Constant):
