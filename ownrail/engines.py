@@ -63,27 +63,32 @@ def lies_twice(engine):
     return len(set(squares)) < len(squares)
 
 
-def squares_and_next(engine):
-    """A list of its squares, the last rail's ahead, then the one on which one comes from its first rail."""
+def walk(engine, many):
+    """A list of (square, way) of so many places of its road, from its last rail's on."""
     x, y, way, look, rails = engine
-    squares = [(x, y)]
-    for shape, colour in rails:
+    square = (x, y)
+    places = []
+    for at in range(many):
+        places.append((square, way))
+        shape, colour = rails[at % len(rails)]
         way = way_on(way, shape)
-        squares.append(onward(squares[-1], way))
-    return squares
+        square = onward(square, way)
+    return places
 
 
 def squares_of(engine):
     """Its squares, the last rail's ahead."""
-    return tuple(squares_and_next(engine)[:-1])
+    x, y, way, look, rails = engine
+    return tuple([square for square, onto in walk(engine, len(rails))])
 
 
 def wanted_square(engine):
     """The square on which it would lay its next rail."""
     x, y, way, look, rails = engine
-    if look == 1:
-        return squares_and_next(engine)[-1]
-    return onward((x, y), way_about(way))
+    if look == -1:
+        return onward((x, y), way_about(way))
+    square, onto = walk(engine, len(rails) + 1)[-1]
+    return square
 
 
 def gone_on(engine):

@@ -22,6 +22,11 @@ BARRED_WORDS = """
 BARRED_NAMES = "register mro elements open input version_info with_traceback add_note format format_map".split()
 NOT_ALLOWED = (ast.Global, ast.AsyncFunctionDef, ast.AsyncFor, ast.AsyncWith, ast.Await, ast.Import, ast.Div)
 MODULE_LEVEL = (ast.ImportFrom, ast.FunctionDef, ast.ClassDef, ast.Assign, ast.AnnAssign, ast.Expr)
+METHODS = """
+    append clear copy count endswith extend find get index insert isalnum isalpha isdigit islower isspace isupper items
+    join keys ljust lower lstrip partition pop remove replace reverse rfind rjust rpartition rsplit rstrip setdefault
+    split splitlines startswith strip update upper values zfill bit_length sort add discard
+""".split()
 SPECIAL = "__init__ __eq__ __repr__ __str__ __len__ __enter__ __exit__ __call__ __iter__".split()
 
 
@@ -46,6 +51,15 @@ def bound_in(path):
         elif isinstance(row, ast.Assign):
             names += [target.id for target in row.targets]
     return names
+
+
+def own_methods():
+    return {row.name for path, node in nodes(ast.ClassDef) for row in node.body if isinstance(row, ast.FunctionDef)}
+
+
+def own_attributes():
+    """The attributes that the package's classes assign."""
+    return {node.attr for path, node in nodes(ast.Attribute) if isinstance(node.ctx, ast.Store)}
 
 
 class Files(unittest.TestCase):
@@ -141,7 +155,56 @@ class Rows(unittest.TestCase):
                 self.assertIn(node.name, SPECIAL, path)
 
 
+    def test_errors_are_raised_on_the_spot(self):
+        for path, node in nodes(ast.Raise):
+            if node.exc is not None:
+                self.assertIsInstance(node.exc, ast.Call, (path, node.lineno))
+                self.assertRegex(ast.unparse(node.exc.func), r"^[A-Z][A-Za-z]+$", (path, node.lineno))
+
+    def test_own_errors_alone_are_caught(self):
+        for path, node in nodes(ast.ExceptHandler):
+            self.assertIn(ast.unparse(node.type), bound_in(PACKAGE / "errors.py"), (path, node.lineno))
+
+    def test_comprehensions_stand_in_functions(self):
+        for path, tree in trees():
+            for row in tree.body:
+                if not isinstance(row, (ast.FunctionDef, ast.ClassDef)):
+                    for node in ast.walk(row):
+                        self.assertNotIsInstance(node, (ast.ListComp, ast.DictComp, ast.SetComp, ast.Call), path)
+
+    def test_what_must_be_iterated_at_once_is_not_stored(self):
+        for path, node in nodes((ast.Assign, ast.Return)):
+            if isinstance(node.value, ast.Call):
+                name = ast.unparse(node.value.func).split(".")[-1]
+                self.assertNotIn(name, "zip enumerate reversed range items keys values iter".split(), (path, node.lineno))
+
+
 class Names(unittest.TestCase):
+    def test_methods_that_are_called_are_listed_or_own(self):
+        for path, node in nodes(ast.Call):
+            if isinstance(node.func, ast.Attribute):
+                self.assertIn(node.func.attr, own_methods() | set(METHODS), (path, node.lineno))
+
+    def test_no_name_is_both_a_method_and_an_attribute(self):
+        self.assertEqual(own_methods() & own_attributes(), set())
+
+    def test_attributes_that_are_read_are_assigned(self):
+        for path, tree in trees():
+            called = {id(node.func) for node in ast.walk(tree) if isinstance(node, ast.Call)}
+            for node in ast.walk(tree):
+                if isinstance(node, ast.Attribute) and id(node) not in called:
+                    self.assertIn(node.attr, own_attributes(), (path, node.lineno))
+
+    def test_locals_have_no_name_of_a_class_or_an_import(self):
+        for path, tree in trees():
+            taken = {row.name for row in tree.body if isinstance(row, ast.ClassDef)}
+            taken |= {name.asname or name.name for row in tree.body if isinstance(row, ast.ImportFrom) for name in row.names}
+            for node in ast.walk(tree):
+                if isinstance(node, ast.Name) and isinstance(node.ctx, ast.Store):
+                    self.assertNotIn(node.id, taken, (path, node.lineno))
+                if isinstance(node, ast.arg):
+                    self.assertNotIn(node.arg, taken, (path, node.lineno))
+
     def test_names_begin_with_a_letter(self):
         for path, node in nodes((ast.Name, ast.arg, ast.Attribute)):
             name = getattr(node, "id", None) or getattr(node, "arg", None) or getattr(node, "attr", None)
