@@ -51,7 +51,7 @@ class Road:
 
 
 def rounds_between(one, other, drift):
-    """How many times drift leads from the one square to the other, or None; 0 where a road without drift is there."""
+    """How many times drift leads from the one square to the other, or None; without drift 0 or None."""
     dx, dy = other[0] - one[0], other[1] - one[1]
     if (dx, dy) == (0, 0):
         return 0

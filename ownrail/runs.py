@@ -90,8 +90,12 @@ class Run:
 
     def give_beat(self):
         """Gives each engine its turn; a list of the meetings."""
-        meetings = [self.give_turn(number) for number in range(len(self.trains))]
-        return [meeting for meeting in meetings if meeting is not None]
+        meetings = []
+        for number in range(len(self.trains)):
+            meeting = self.give_turn(number)
+            if meeting is not None:
+                meetings.append(meeting)
+        return meetings
 
     def bones(self):
         """All that the yard is but its colours."""
