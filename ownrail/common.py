@@ -5,7 +5,13 @@ from ownrail.roads import Road, rounds_between
 
 def pairs_of_roads(one, other):
     """Rows (i, j, steps), by i's rest by the one's round, then by j's by the other's, of all places on one square."""
-    first, second = Road(one), Road(other)
+    return rows_of_roads(Road(one), Road(other))
+
+
+def rows_of_roads(first, second):
+    """The rows of two roads."""
+    if not first.drifts() and not second.drifts():
+        return rows_of_rounds(first, second)
     rows = []
     for u in range(first.span):
         for v in range(second.span):
@@ -15,19 +21,25 @@ def pairs_of_roads(one, other):
     return tuple(rows)
 
 
+def rows_of_rounds(first, second):
+    """The rows of two roads that both come back to their begin."""
+    # Such roads are the longest ones, so their squares are looked up, not held against each other one by one.
+    found = {}
+    for v, (square, way) in enumerate(second.places):
+        found.setdefault(square, []).append(v)
+    steps = ((first.span, 0), (0, second.span))
+    return tuple([(u, v, steps) for u, (square, way) in enumerate(first.places) for v in found.get(square, [])])
+
+
 def row_of(first, second, u, v):
-    """The row of all pairs whose places leave u and v by the rounds, or None."""
+    """The row of all pairs whose places leave u and v by the rounds, or None; one of the roads drifts, or both."""
     if first.drifts() and second.drifts():
         return row_of_drifts(first, second, u, v)
     if second.drifts():
         rounds = rounds_between(second.square_at(v), first.square_at(u), second.drift)
         return None if rounds is None else (u, v + rounds * second.span, ((first.span, 0),))
     rounds = rounds_between(first.square_at(u), second.square_at(v), first.drift)
-    if rounds is None:
-        return None
-    if first.drifts():
-        return (u + rounds * first.span, v, ((0, second.span),))
-    return (u, v, ((first.span, 0), (0, second.span)))
+    return None if rounds is None else (u + rounds * first.span, v, ((0, second.span),))
 
 
 def row_of_drifts(first, second, u, v):

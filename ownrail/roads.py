@@ -50,6 +50,16 @@ class Road:
         return sorted(found)
 
 
+def shortest_road(engine):
+    """Its road, told by the fewest of its rails that, gone round again and again, have all its shapes."""
+    x, y, way, look, rails = engine
+    shapes = [shape for shape, colour in rails]
+    for many in range(1, len(shapes)):
+        if len(shapes) % many == 0 and shapes[many:] + shapes[:many] == shapes:
+            return Road((x, y, way, look, rails[:many]))
+    return Road(engine)
+
+
 def rounds_between(one, other, drift):
     """How many times drift leads from the one square to the other, or None; without drift 0 or None."""
     dx, dy = other[0] - one[0], other[1] - one[1]

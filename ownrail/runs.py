@@ -101,6 +101,10 @@ class Run:
         """All that the yard is but its colours."""
         return [train.bones() for train in self.trains]
 
+    def seen(self):
+        """A dict from all squares that have a rail to their colours."""
+        return {square: self.trains[number].colours[rail] for square, (number, rail) in self.lying.items()}
+
     def as_yard(self):
         """The yard that it is now."""
         return tuple([train.as_engine() for train in self.trains])

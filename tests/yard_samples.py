@@ -103,3 +103,55 @@ COLUMN = (
     engine_of(0, 6, 0, 1, "rrrr", 5),
     engine_of(0, -4, 0, -1, "rrrr", 1),
 )
+
+# Alone it is turned by its own rails: forward it wants the square of its rail at place 2.
+OWN_WAY = engine_of(0, 0, 1, 1, "ssslll")
+WHEEL = engine_of(0, 0, 0, 1, "rrrr")
+
+
+def slow_free(engine):
+    """Whether alone it is never turned, by a walk of its road."""
+    many = len(engine[4])
+    road = walked(engine, 0, 2 * many)
+    return not any(road[i][0] == road[j][0] for i in range(many) for j in range(i + 1, i + many))
+
+
+def random_free_engine(chance, size=6, rails=12):
+    while True:
+        engine = random_engine(chance, size, rails)
+        if slow_free(engine):
+            return engine
+
+
+def free_yard(chance, many, size=6, rails=12):
+    """A yard of so many engines, each free by itself."""
+    yard = ()
+    while len(yard) < many:
+        longer = yard + (random_free_engine(chance, size, rails),)
+        if lies_once(longer):
+            yard = longer
+    return yard
+
+
+def free_yards(seed, each=3):
+    """Yards of 1 to 8 engines, each free by itself, crowded and not, always the same for one seed."""
+    chance = Random(seed)
+    for many in range(1, 9):
+        for size, rails in ((4, 3), (6, 6), (8, 12), (20, 12)):
+            for again in range(each):
+                yield free_yard(chance, many, size, rails)
+
+
+def gone_free(yard, beats_gone):
+    """The yard with each engine gone on along its road by so many beats, below 0 too, as if none were ever turned."""
+    return tuple(led_far(engine, beats_gone * engine[3]) for engine in yard)
+
+
+def led_far(engine, k):
+    """The engine gone on by k, however many: by whole rounds at once, the rest by a walk."""
+    many = 4 * len(engine[4])
+    x, y, way, look, rails = gone_by(engine, many)
+    dx, dy = x - engine[0], y - engine[1]
+    rounds, rest = divmod(k, many)
+    x, y, way, look, rails = gone_by(engine, rest)
+    return (x + rounds * dx, y + rounds * dy, way, look, rails)
