@@ -175,7 +175,7 @@ class Chase:
         one, met = self.movers[number], self.movers[other]
         square = one.road.square_at(one.wanted_in(beat))
         near = one.near_in(beat)
-        there = (met.place_in(beat + (1 if other < number else 0)) + rail) % len(met.shapes)
+        there = (met.place_in(beat + self.watches[(number, other)].lead) + rail) % len(met.shapes)
         one.colours[near], met.colours[there] = met.colours[there], one.colours[near]
         one.turn_in(beat)
         for mover in range(len(self.movers)):

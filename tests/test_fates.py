@@ -247,31 +247,21 @@ class Refused(unittest.TestCase):
         for many in (0, 1, 1000):
             self.assertEqual(far_of_two(yard, many, most=most), beats(yard, many)[0])
 
-    def test_free_with_just_the_most_and_one_fewer(self):
-        several = 0
-        for yard in free_pairs(178, 12, 3):
-            rows = beats(yard, fate_of(yard)[1])[1]
-            needed = met_beats(rows)
-            several += len(rows) > needed
-            self.told(yard, needed)
-            self.told(yard, needed + 1)
-            if needed > 1:
-                self.too_many(yard, needed - 1)
-        # Beats with meetings are counted, not meetings.
-        self.assertGreater(several, 2)
+    def check_most(self, yard):
+        """Told with just as many beats with meetings as are wanted, refused with one fewer; how many meetings more."""
+        fate = fate_of(yard)
+        rows = beats(yard, fate[1])[1]
+        needed = met_beats(rows)
+        self.told(yard, needed)
+        self.told(yard, needed + 1)
+        for fewer in {1, needed - 1} - {0, needed}:
+            self.too_many(yard, fewer)
+        return len(rows) - needed
 
-    def test_a_round_with_just_the_most_and_one_fewer(self):
-        several = 0
-        for yard in ROUNDS:
-            rows = beats(yard, fate_of(yard)[1])[1]
-            needed = met_beats(rows)
-            several += len(rows) > needed
-            self.told(yard, needed)
-            self.told(yard, needed + 1)
-            if needed > 1:
-                self.too_many(yard, needed - 1)
-                self.too_many(yard, 1)
-        self.assertGreater(several, 0)
+    def test_just_the_most_and_one_fewer(self):
+        # Beats with meetings are counted, not meetings, so there are some with more meetings than these.
+        self.assertGreater(sum(self.check_most(yard) for yard in free_pairs(178, 12, 3)), 2)
+        self.assertGreater(sum(self.check_most(yard) for yard in ROUNDS), 2)
 
     def test_it_is_the_round_that_counts(self):
         # From wherever in its round: as many beats with meetings.

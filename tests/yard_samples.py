@@ -31,10 +31,10 @@ def random_engine(chance, size=6, rails=12):
             return engine
 
 
-def random_yard(chance, many, size=6, rails=12):
+def random_yard(chance, many, size=6, rails=12, engine_by=random_engine):
     yard = ()
     while len(yard) < many:
-        longer = yard + (random_engine(chance, size, rails),)
+        longer = yard + (engine_by(chance, size, rails),)
         if lies_once(longer):
             yard = longer
     return yard
@@ -125,12 +125,7 @@ def random_free_engine(chance, size=6, rails=12):
 
 def free_yard(chance, many, size=6, rails=12):
     """A yard of so many engines, each free by itself."""
-    yard = ()
-    while len(yard) < many:
-        longer = yard + (random_free_engine(chance, size, rails),)
-        if lies_once(longer):
-            yard = longer
-    return yard
+    return random_yard(chance, many, size, rails, random_free_engine)
 
 
 def free_yards(seed, each=3):
